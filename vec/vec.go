@@ -7,6 +7,7 @@ import (
 	"strings"
 
 	"landau/api"
+	"landau/num"
 )
 
 // Vec tells of each site how many of its records; sites past its end are 0.
@@ -125,7 +126,7 @@ func parseNumbers(body string) (Vec, api.Errno) {
 	var v Vec
 	last, long := 0, false
 	for word := range strings.SplitSeq(body, " ") {
-		n, ok := decimal(word)
+		n, ok := num.Decimal(word, api.MaxSeq)
 		if !ok {
 			return nil, api.ErrForm
 		}
@@ -143,23 +144,6 @@ func parseNumbers(body string) (Vec, api.Errno) {
 		return nil, api.ErrLong
 	}
 	return v, api.OK
-}
-
-// decimal reads digits without leading noughts; false: it is no such number.
-// What is above MaxSeq is told as one more than that, so that no length of digits overflows.
-func decimal(word string) (int, bool) {
-	if word == "" || len(word) > 1 && word[0] == '0' {
-		return 0, false
-	}
-	n := 0
-	for i := range len(word) {
-		c := word[i]
-		if c < '0' || c > '9' {
-			return 0, false
-		}
-		n = min(n*10+int(c-'0'), api.MaxSeq+1)
-	}
-	return n, true
 }
 
 // stretched answers v in new memory, with noughts up to size, which is not below v's length.
